@@ -1,0 +1,1 @@
+"""Forms in two letters, and all that changes along with them."""

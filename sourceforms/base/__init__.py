@@ -1,0 +1,1 @@
+"""Ratios and tables of integers."""

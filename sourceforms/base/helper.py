@@ -1,0 +1,81 @@
+"""What several modules need: judging values that are passed, and rows of integers of any length."""
+
+from math import gcd
+
+from sourceforms.base.ratios import is_integer
+from sourceforms.errors import InvalidNumber
+
+
+def is_within(value, low, high):
+    """Whether the value is an integer from low to high."""
+    return is_integer(value) and low <= value <= high
+
+
+def need_number(value, low, high):
+    """Refuse what is no integer from low to high."""
+    if not is_within(value, low, high):
+        raise InvalidNumber(value)
+
+
+def is_row(value):
+    """Whether the value is a tuple of integers."""
+    return isinstance(value, tuple) and all([is_integer(part) for part in value])
+
+
+def is_pair(value):
+    """Whether the value is a pair of integers."""
+    return is_row(value) and len(value) == 2
+
+
+def is_point(value):
+    """Whether the value is a pair without a common divisor, its first integer other than 0 being above 0."""
+    return is_pair(value) and gcd(value[0], value[1]) == 1 and value > (0, 0)
+
+
+def is_change(value):
+    """Whether the value is a pair of pairs of integers."""
+    return isinstance(value, tuple) and len(value) == 2 and all([is_pair(row) for row in value])
+
+
+def lead_of(row):
+    """The index of the first integer of a row that is not 0, or None."""
+    for index, number in enumerate(row):
+        if number != 0:
+            return index
+    return None
+
+
+def content_of(row):
+    """The greatest common divisor of a row, 0 for zeros."""
+    found = 0
+    for number in row:
+        found = gcd(found, number)
+    return found
+
+
+def primitive_row(row):
+    """The row, divided by its content, its first integer other than 0 being above 0; zeros stay."""
+    lead = lead_of(row)
+    if lead is None:
+        return tuple(row)
+    content = content_of(row)
+    if row[lead] < 0:
+        content = -content
+    return tuple([number // content for number in row])
+
+
+def sign_of(number):
+    """-1, 0 or 1."""
+    if number < 0:
+        return -1
+    if number > 0:
+        return 1
+    return 0
+
+
+def powers_of(number, most):
+    """The powers of an integer with the exponents from 0 to most, in a list."""
+    found = [1]
+    for _ in range(most):
+        found.append(found[-1] * number)
+    return found

@@ -1,0 +1,1 @@
+"""Forms and their layings."""
