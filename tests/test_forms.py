@@ -269,6 +269,9 @@ class Dividing(Case, unittest.TestCase):
         self.assertIsNone(Form((0, 1)).quotient(Form((1, 0))))
         self.assertIsNone(Form((1, 0, 1)).quotient(Form((0, 1))))
         self.assertEqual(Form((2, 4)).quotient(Form((-2,))).entries, (-1, -2))
+        self.assertEqual(Form((0, 2, 1)).quotient(Form((0, 2, 1))).entries, (1,))
+        self.assertEqual(Form((0, 0, 6, -1, 5)).quotient(Form((0, 0, 6, -1, 5))).entries, (1,))
+        self.assertEqual((Form((0, 0, 3, 1)) * Form((0, 5, 1))).quotient(Form((0, 5, 1))).entries, (0, 0, 3, 1))
         for form in SOME:
             for other in SOME:
                 if form.is_zero or other.is_zero:

@@ -46,8 +46,7 @@ def multiple_row(row, number):
 def derived_row(row, one, other):
     """The entries of a form, derived so many times by x, and then by y; the degree is at least as many."""
     degree = len(row) - 1
-    places = range(other, degree - one + 1)
-    return tuple([row[i] * perm(degree - i, one) * perm(i, other) for i in places])
+    return tuple([row[i] * perm(degree - i, one) * perm(i, other) for i in range(other, degree - one + 1)])
 
 
 def changed_row(row, table):
@@ -230,7 +229,8 @@ class Form:
         return iter(self._entries)
 
     def __str__(self):
-        return "form " + " ".join([str(entry) for entry in self._entries])
+        told = " ".join([str(entry) for entry in self._entries])
+        return f"form {told}"
 
 
 def need_one_degree(one, other):

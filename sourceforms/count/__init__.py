@@ -1,0 +1,1 @@
+"""Counts of partitions and of covariants."""

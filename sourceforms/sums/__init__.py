@@ -1,0 +1,1 @@
+"""Sums over the entries of a form."""
