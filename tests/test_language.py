@@ -208,31 +208,69 @@ class Language(unittest.TestCase):
                                 self.assertNotIn(part.func.value.id, over, (path, part.lineno))
 
     def test_what_is_changed_is_new(self):
-        """Items are assigned, and methods that modify are called, only where the function made the list or dict."""
+        """Items are assigned, and methods that modify are called, only where the function made the list or dict.
+
+        Where an operator, a property or `__eq__` and the like get there, it is only ever assigned such a new one.
+        """
+        strict = called_by_signs()
         for path, tree in trees():
             for function in functions(tree):
                 made = {}
                 for node in ast.walk(function):
                     if isinstance(node, ast.Assign) and isinstance(node.targets[0], ast.Name):
                         made.setdefault(node.targets[0].id, []).append(is_new(node.value))
+                for target, line in changed_targets(function):
+                    here = made.get(target, [False])
+                    self.assertTrue(all(here) if function.name in strict else any(here), (path, line, target))
+
+    def test_no_list_is_multiplied(self):
+        """Beside an own `*` a list that is made with this sign is not taken as surely new (L5)."""
+        for path, tree in trees():
+            for node in ast.walk(tree):
+                if isinstance(node, ast.BinOp) and isinstance(node.op, ast.Mult):
+                    for part in (node.left, node.right):
+                        self.assertNotIsInstance(part, (ast.List, ast.ListComp), (path, node.lineno))
+
+
+def changed_targets(function):
+    """The names of the lists and dicts that a function changes, with the lines."""
+    for node in ast.walk(function):
+        target = None
+        if isinstance(node, ast.Subscript) and isinstance(node.ctx, ast.Store):
+            target = node.value
+            while isinstance(target, ast.Subscript):
+                target = target.value
+        if isinstance(node, ast.Call) and isinstance(node.func, ast.Attribute):
+            if node.func.attr in ("append", "pop", "extend", "insert", "remove", "update", "setdefault", "clear"):
+                target = node.func.value
+        if isinstance(target, ast.Name):
+            yield target.id, node.lineno
+
+
+def called_by_signs():
+    """The names of all functions that an operator, a property, `__eq__` and the like call, through others, too."""
+    bodies, left = {}, []
+    for _, tree in trees():
+        for function in functions(tree):
+            bodies.setdefault(function.name, []).append(function)
+            marks = [part.id for part in function.decorator_list]
+            if "property" in marks or function.name.startswith("__") and function.name != "__init__":
+                left.append(function.name)
+    found = set()
+    while left:
+        name = left.pop()
+        if name in bodies and name not in found:
+            found.add(name)
+            for function in bodies[name]:
                 for node in ast.walk(function):
-                    target = None
-                    if isinstance(node, ast.Subscript) and isinstance(node.ctx, ast.Store):
-                        target = node.value
-                        while isinstance(target, ast.Subscript):
-                            target = target.value
-                    if isinstance(node, ast.Call) and isinstance(node.func, ast.Attribute):
-                        if node.func.attr in ("append", "pop", "extend", "insert", "remove", "update"):
-                            target = node.func.value
-                    if target is not None:
-                        self.assertTrue(any(made.get(target.id, [])), (path, node.lineno))
+                    if isinstance(node, ast.Call):
+                        left.append(getattr(node.func, "id", None) or getattr(node.func, "attr", None))
+    return found
 
 
 def is_new(value):
     if isinstance(value, (ast.List, ast.Dict, ast.ListComp, ast.DictComp)):
         return True
-    if isinstance(value, ast.BinOp):
-        return is_new(value.left) or is_new(value.right)
     return isinstance(value, ast.Call) and isinstance(value.func, ast.Name) and value.func.id in STARTS
 
 

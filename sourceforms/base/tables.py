@@ -109,7 +109,7 @@ def kernel_row(base, leads, free, width):
     whole = 1
     for row, lead in zip(base, leads):
         whole = lcm(whole, row[lead])
-    found = [0] * width
+    found = [0 for _ in range(width)]
     found[free] = whole
     for row, lead in zip(base, leads):
         found[lead] = -row[free] * (whole // row[lead])

@@ -26,7 +26,8 @@ def need_form(value):
 
 def product_row(one, other):
     """The entries of the product of two rows of entries."""
-    found = [0] * (len(one) + len(other) - 1)
+    # A list made with the sign `*` would not surely be a new one, beside the own `*` of classes.
+    found = [0 for _ in range(len(one) + len(other) - 1)]
     for i, first in enumerate(one):
         for j, second in enumerate(other):
             found[i + j] = found[i + j] + first * second

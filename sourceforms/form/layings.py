@@ -113,7 +113,7 @@ def table_below(table):
 
 def joined(table):
     """The entries of the form with x put for u, and y for v."""
-    found = [0] * (len(table) + len(table[0]) - 1)
+    found = [0 for _ in range(len(table) + len(table[0]) - 1)]
     for i, row in enumerate(table):
         for j, entry in enumerate(row):
             found[i + j] = found[i + j] + entry
@@ -129,7 +129,7 @@ def table_of_parts(first, second, parts):
     bottom = 1
     for times in range(len(parts)):
         bottom = lcm(bottom, part_bottom(first, second, times))
-    table = [[0] * (second + 1) for _ in range(first + 1)]
+    table = [[0 for _ in range(second + 1)] for _ in range(first + 1)]
     for times, part in enumerate(parts):
         piece = spread(part.entries, first - times, second - times)
         for _ in range(times):
@@ -178,7 +178,7 @@ def spread(entries, first, second):
 def table_above(table):
     """The table, multiplied by x v - y u."""
     first, second = len(table), len(table[0])
-    found = [[0] * (second + 1) for _ in range(first + 1)]
+    found = [[0 for _ in range(second + 1)] for _ in range(first + 1)]
     for i in range(first):
         for j in range(second):
             found[i][j + 1] = found[i][j + 1] + table[i][j]
