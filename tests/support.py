@@ -1,6 +1,7 @@
 """What the tests share: example runs, refusals, and numbers that look arbitrary but never change."""
 
 import random
+from fractions import Fraction
 
 from sourceforms.form.forms import Form
 
@@ -33,6 +34,18 @@ def some_table(pick, most=5):
 
 def matrix_product(one, other):
     return tuple(tuple(sum(a * b for a, b in zip(row, column)) for column in zip(*other)) for row in one)
+
+
+def rank_of(rows):
+    """The rank of rows of numbers, by fractions."""
+    rows, rank = [[Fraction(part) for part in row] for row in rows], 0
+    while rows:
+        row = rows.pop()
+        lead = next((k for k, part in enumerate(row) if part), None)
+        if lead is not None:
+            rank += 1
+            rows = [[a - b * other[lead] / row[lead] for a, b in zip(other, row)] for other in rows]
+    return rank
 
 
 def kept_by(error):

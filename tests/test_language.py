@@ -11,7 +11,7 @@ FILES = sorted(TOP.rglob("*.py"))
 NODES = """Module Import ImportFrom alias FunctionDef ClassDef arguments arg Return Assign Expr If While For Break
 Continue Pass Raise Assert Yield Name Attribute Subscript Slice Constant Tuple List Dict ListComp DictComp
 comprehension Call keyword BinOp UnaryOp BoolOp Compare IfExp JoinedStr FormattedValue Starred
-Load Store Add Sub Mult FloorDiv Mod Pow USub Not And Or Eq NotEq Lt LtE Gt GtE Is IsNot In NotIn""".split()
+Load Store Add Sub Mult FloorDiv Mod Pow USub LShift RShift BitAnd Not And Or Eq NotEq Lt LtE Gt GtE Is IsNot In NotIn""".split()
 BUILTINS = """len range enumerate zip min max sum abs sorted reversed int str bool list tuple dict isinstance
 repr any all divmod iter ValueError KeyError IndexError LookupError ArithmeticError OverflowError NotImplemented
 property classmethod staticmethod""".split()

@@ -17,6 +17,22 @@ def need_number(value, low, high):
         raise InvalidNumber(value)
 
 
+def is_whole(value):
+    """Whether the value is an integer of any length."""
+    return isinstance(value, int) and not isinstance(value, bool)
+
+
+def is_same(value, wanted):
+    """Whether a judged value is the wanted one, made of tuples, strings and integers; True is no integer."""
+    if isinstance(wanted, tuple):
+        if not isinstance(value, tuple) or len(value) != len(wanted):
+            return False
+        return all([is_same(part, other) for part, other in zip(value, wanted)])
+    if isinstance(wanted, int):
+        return is_whole(value) and value == wanted
+    return isinstance(value, str) and value == wanted
+
+
 def is_row(value):
     """Whether the value is a tuple of integers."""
     return isinstance(value, tuple) and all([is_integer(part) for part in value])

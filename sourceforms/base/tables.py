@@ -96,10 +96,14 @@ def rank(table):
 def kernel(table):
     """The echelon of all rows whose products with the rows of the table are 0."""
     need_table(table)
+    return kernel_rows(table, len(table[0]))
+
+
+def kernel_rows(rows, width):
+    """The kernel of any rows of this width, perhaps of none."""
     # With the columns turned round, the leads stand behind the free columns, so these make the leads.
-    base = echelon([row[::-1] for row in table])
+    base = echelon([row[::-1] for row in rows])
     leads = [lead_of(row) for row in base]
-    width = len(table[0])
     free = [column for column in range(width) if column not in leads]
     return tuple([kernel_row(base, leads, column, width) for column in reversed(free)])
 

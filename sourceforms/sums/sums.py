@@ -77,14 +77,30 @@ def added_terms(one, other, factor):
     return found
 
 
-def product_terms(one, other):
-    """The terms of a product of two sums."""
-    found = {}
-    for first in one:
-        for second in other:
-            key = tuple([a + b for a, b in zip(first, second)])
-            found[key] = found.get(key, 0) + one[first] * other[second]
+def packed(exponents):
+    """The exponents as one integer, four bits for each, so that products add these integers."""
+    found = 0
+    for often in exponents:
+        found = found * 16 + often
     return found
+
+
+def unpacked(number, many):
+    """The exponents that are packed into an integer."""
+    return tuple([(number >> (4 * place)) & 15 for place in range(many - 1, -1, -1)])
+
+
+def product_terms(one, other):
+    """The terms of a product of two sums, whose sizes add up to at most 12."""
+    first = first_of(one)
+    many = 0 if first is None else len(first)
+    factors = [(packed(exponents), other[exponents]) for exponents in other]
+    found = {}
+    for exponents in one:
+        place, number = packed(exponents), one[exponents]
+        for key, factor in factors:
+            found[place + key] = found.get(place + key, 0) + number * factor
+    return {unpacked(place, many): found[place] for place in found}
 
 
 def made_sum(degree, terms):

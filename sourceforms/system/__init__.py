@@ -1,0 +1,1 @@
+"""Systems of covariants: all that the covariants of a degree are made of."""
