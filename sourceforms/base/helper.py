@@ -22,6 +22,15 @@ def is_whole(value):
     return isinstance(value, int) and not isinstance(value, bool)
 
 
+def is_whole_change(value):
+    """Whether the value is a change, with integers of any length."""
+    if not isinstance(value, tuple) or len(value) != 2:
+        return False
+    if not all([isinstance(row, tuple) and len(row) == 2 for row in value]):
+        return False
+    return all([is_whole(number) for row in value for number in row])
+
+
 def is_same(value, wanted):
     """Whether a judged value is the wanted one, made of tuples, strings and integers; True is no integer."""
     if isinstance(wanted, tuple):

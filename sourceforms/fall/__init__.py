@@ -1,0 +1,1 @@
+"""Forms whose roots come too often."""

@@ -1,0 +1,49 @@
+"""Common divisors of forms, as rows of integers of any length."""
+
+from math import gcd
+
+from sourceforms.base.helper import lead_of, primitive_row
+from sourceforms.form.forms import derived_row
+
+
+def rest_row(one, other):
+    """What a polynomial leaves, but for a factor, when it is divided by another one; () for nothing.
+
+    Both are rows from the highest power down, without zeros ahead.
+    """
+    left = one
+    while len(left) >= len(other):
+        shared = gcd(left[0], other[0])
+        up, down = other[0] // shared, left[0] // shared
+        head = [up * a - down * b for a, b in zip(left, other)]
+        left = head[1:] + [up * a for a in left[len(other):]]
+        lead = lead_of(left)
+        left = [] if lead is None else left[lead:]
+    return primitive_row(left)
+
+
+def common_polynomial(one, other):
+    """The greatest common divisor of two polynomials, rows from the highest power down without zeros ahead."""
+    first, second = primitive_row(one), primitive_row(other)
+    if len(first) < len(second):
+        first, second = second, first
+    while len(second) > 0:
+        first, second = second, rest_row(first, second)
+    return first
+
+
+def common_row(one, other):
+    """The entries of the common divisor of the greatest degree of two forms other than 0."""
+    first, second = lead_of(one), lead_of(other)
+    # The zeros ahead tell how often the line y divides.
+    return (0,) * min(first, second) + common_polynomial(one[first:], other[second:])
+
+
+def thinned_row(row):
+    """The entries of the form with each root of a form other than 0 once less; its degree is at least 1."""
+    first, second = derived_row(row, 1, 0), derived_row(row, 0, 1)
+    if lead_of(first) is None:
+        return primitive_row(second)
+    if lead_of(second) is None:
+        return primitive_row(first)
+    return common_row(first, second)

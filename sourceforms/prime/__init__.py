@@ -1,0 +1,1 @@
+"""Forms over prime fields, and their changes."""
