@@ -1,13 +1,14 @@
 import unittest
 from itertools import combinations_with_replacement, islice
 from math import comb
+from time import process_time
 
 from sourceforms import errors
 from sourceforms.count import boxes as module
 from sourceforms.count.boxes import box_count, box_row, boxes, count_row, covariant_count, left_box, turned_box
 from sourceforms.errors import InvalidOperation
 from sourceforms.sums.sums import Sum
-from tests.support import NO_INTEGERS, NO_TUPLES, Case
+from tests.support import NO_INTEGERS, NO_TUPLES, Case, picker
 from tests.test_sums import all_exponents
 from tests.test_tables import reckoned_echelon
 
@@ -37,6 +38,33 @@ def counted(weight, parts, most, kept={}):
     if key not in kept:
         kept[key] = counted(weight, parts - 1, most) + counted(weight - parts, parts, most - 1)
     return kept[key]
+
+
+def rows_by_rule(most_of_both):
+    """All rows of counts, each by P(w; d, n) = P(w; d - 1, n) + P(w - d; d, n - 1)."""
+    rows = {}
+    for parts in range(most_of_both + 1):
+        for most in range(most_of_both + 1):
+            row = [1] + [0] * (parts * most)
+            if parts and most:
+                row = rows[parts - 1, most] + [0] * most
+                for weight, number in enumerate(rows[parts, most - 1]):
+                    row[weight + parts] += number
+            rows[parts, most] = row
+    return rows
+
+
+def row_by_row(parts, most):
+    """The row of counts as a product of (1 - t ** (most + k)) / (1 - t ** k), one k behind the other."""
+    row = [1]
+    for k in range(1, parts + 1):
+        longer = []
+        for weight in range(k * most + 1):
+            number = row[weight] if weight < len(row) else 0
+            number -= row[weight - most - k] if 0 <= weight - most - k < len(row) else 0
+            longer.append(number + (longer[weight - k] if weight >= k else 0))
+        row = longer
+    return row
 
 
 class Counts(Case, unittest.TestCase):
@@ -73,6 +101,41 @@ class Counts(Case, unittest.TestCase):
                     if parts and most:
                         less = counted(weight, parts - 1, most) + counted(weight - parts, parts, most - 1)
                         self.assertEqual(row[weight], less)
+
+    def test_great_ones(self):
+        """All numbers of parts and greatest parts from 20 to 40, and many weights, by the rule with one part less."""
+        rows = rows_by_rule(40)
+        pick = picker(901)
+        for parts in range(20, 41):
+            for most in range(20, 41):
+                row = rows[parts, most]
+                whole = parts * most
+                weights = [0, 1, parts, most, whole // 2, whole // 2 + 1, whole - 1, whole]
+                for weight in weights + [pick.randint(0, whole) for _ in range(12)]:
+                    self.assertEqual(box_count(weight, parts, most), row[weight])
+        for weight in range(1601):
+            self.assertEqual(box_count(weight, 40, 40), rows[40, 40][weight])
+        for parts, most in ((40, 40), (40, 39), (33, 40), (20, 20), (40, 20), (1, 40), (40, 1), (7, 31), (31, 8), (4, 8), (8, 8)):
+            self.assertEqual(box_row(parts, most), tuple(rows[parts, most]))
+
+    def test_many_numbers(self):
+        rows = rows_by_rule(40)
+        pick = picker(902)
+        for _ in range(20000):
+            parts, most = pick.randint(0, 40), pick.randint(0, 40)
+            weight = pick.randint(0, parts * most + 2)
+            row = rows[parts, most]
+            self.assertEqual(box_count(weight, parts, most), row[weight] if weight < len(row) else 0)
+
+    def test_time(self):
+        """A great count takes far less time than to make the rows of all counts in one part less, one by one."""
+        begin = process_time()
+        rows = [row_by_row(40, 40) for _ in range(20)]
+        between = process_time()
+        counts = [box_count(790 + at, 40, 40) for at in range(20)]
+        end = process_time()
+        self.assertEqual(counts, [row[790 + at] for at, row in enumerate(rows)])
+        self.assertLess((end - between) * 4, between - begin)
 
     def test_edges(self):
         self.assertEqual((box_count(0, 0, 0), box_count(1, 0, 40), box_count(1, 40, 0), box_count(1600, 40, 40)), (1, 0, 0, 1))

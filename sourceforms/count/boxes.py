@@ -1,39 +1,55 @@
 """Boxes, which are partitions, their counts, and the counts of covariants."""
 
+from math import comb
+
 from sourceforms.base.helper import is_within, need_number
 from sourceforms.errors import InvalidOperation
 
 MAX_PARTS = 40
 MAX_WEIGHT = 1600
 
+# How many counts are cut off at once where all of them are read.
+PIECE = 32
 
-def row_beyond(row, parts, most):
-    """The counts of the boxes by weight in so many parts, made of those in one part less.
 
-    The counts are the coefficients of the product of (1 - t ** (most + k)) / (1 - t ** k) over k up to `parts`.
+def packed_counts(parts, most, top):
+    """The pair (integer, width): the integer holds the counts of the boxes that fit, for the weights from 0 to `top`.
+
+    Each count has `width` bits; that of the weight `top` stands lowest, so that what is shifted beyond it is left out.
+    The counts are the coefficients of the product of (1 - t ** (high + k)) / (1 - t ** k) over k up to `many`.
     """
+    many, high = min(parts, most), max(parts, most)
+    # No count here is above the number of all boxes that fit, and none is below 0, so none reaches its neighbour.
+    width = comb(many + high, many).bit_length()
+    total, reach = 1, 0
+    for part in range(1, many + 1):
+        longer = min(top, part * high)
+        total = total << ((longer - reach) * width)
+        reach = longer
+        # 1 / (1 - t ** k) is the product of 1 + t ** k, 1 + t ** (2 k), 1 + t ** (4 k), and so on.
+        step = part
+        while step <= reach:
+            total = total + (total >> (step * width))
+            step = 2 * step
+        total = total - (total >> ((high + part) * width))
+    return (total, width)
+
+
+def lowest_bits(number, width):
+    """The integer that the lowest bits tell."""
+    return number & ((1 << width) - 1)
+
+
+def counts_up_to(parts, most, top):
+    """The list of the counts of the boxes that fit, for the weights from 0 to `top`."""
+    total, width = packed_counts(parts, most, top)
     found = []
-    for weight in range(parts * most + 1):
-        number = row[weight] if weight < len(row) else 0
-        if 0 <= weight - most - parts < len(row):
-            number = number - row[weight - most - parts]
-        if weight >= parts:
-            number = number + found[weight - parts]
-        found.append(number)
-    return found
-
-
-def counts_by_weight(parts, most):
-    """The list of the counts of the boxes that fit, by weight."""
-    row = [1]
-    for many in range(1, parts + 1):
-        row = row_beyond(row, many, most)
-    return row
-
-
-def rise_at(row, weight):
-    """The count at a weight less the one ahead of it."""
-    return row[weight] - row[weight - 1] if weight > 0 else row[weight]
+    # Cut into longer pieces first, so that few shifts go over the whole integer.
+    for begin in range(0, top + 1, PIECE):
+        piece = lowest_bits(total >> (begin * width), PIECE * width)
+        for place in range(min(PIECE, top + 1 - begin)):
+            found.append(lowest_bits(piece >> (place * width), width))
+    return found[::-1]
 
 
 def box_count(weight, parts, most):
@@ -41,16 +57,20 @@ def box_count(weight, parts, most):
     need_number(weight, 0, MAX_WEIGHT)
     need_number(parts, 0, MAX_PARTS)
     need_number(most, 0, MAX_PARTS)
-    if weight > parts * most:
+    left = parts * most - weight
+    if left < 0:
         return 0
-    return counts_by_weight(parts, most)[weight]
+    total, width = packed_counts(parts, most, min(weight, left))
+    return lowest_bits(total, width)
 
 
 def box_row(parts, most):
     """The tuple of the numbers of the boxes that fit, for the weights from 0 to parts * most."""
     need_number(parts, 0, MAX_PARTS)
     need_number(most, 0, MAX_PARTS)
-    return tuple(counts_by_weight(parts, most))
+    whole = parts * most
+    half = counts_up_to(parts, most, whole // 2)
+    return tuple([half[min(weight, whole - weight)] for weight in range(whole + 1)])
 
 
 def filled(weight, most):
@@ -124,16 +144,16 @@ def covariant_count(degree, size, order):
     need_number(degree, 0, MAX_PARTS)
     need_number(size, 0, MAX_PARTS)
     need_number(order, 0, MAX_WEIGHT)
-    return count_of(counts_by_weight(size, degree), order)
+    return count_of(degree, size, order)
 
 
-def count_of(row, order):
-    """The number of the covariants of an order, by the row of the counts of boxes."""
-    # The last weight of the row is the degree times the size.
-    twice = len(row) - 1 - order
+def count_of(degree, size, order):
+    """The number of the covariants: the count of the boxes of their weight less that of the weight ahead of it."""
+    twice = degree * size - order
     if twice < 0 or twice % 2 != 0:
         return 0
-    return rise_at(row, twice // 2)
+    total, width = packed_counts(size, degree, twice // 2)
+    return lowest_bits(total, width) - lowest_bits(total >> width, width)
 
 
 def count_row(degree, order, sizes):
@@ -141,9 +161,4 @@ def count_row(degree, order, sizes):
     need_number(degree, 0, MAX_PARTS)
     need_number(order, 0, MAX_WEIGHT)
     need_number(sizes, 0, MAX_PARTS)
-    row = [1]
-    found = [count_of(row, order)]
-    for size in range(1, sizes + 1):
-        row = row_beyond(row, size, degree)
-        found.append(count_of(row, order))
-    return tuple(found)
+    return tuple([count_of(degree, size, order) for size in range(sizes + 1)])
