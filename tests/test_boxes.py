@@ -190,6 +190,7 @@ class Boxes(Case, unittest.TestCase):
         for value in SMALL:
             late = boxes(5, value, -1)
             self.refuses_number(value, next, late)
+            self.refuses_number(value, next, boxes(5, value, 3))
             self.refuses_number(value, list, boxes(5, 2, value))
 
     def test_two_go_on_by_themselves(self):

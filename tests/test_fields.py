@@ -1,5 +1,5 @@
 import unittest
-from itertools import combinations_with_replacement, permutations, product
+from itertools import permutations, product
 
 from sourceforms import errors
 from sourceforms.errors import InvalidForm, InvalidOperation, InvalidPoint, InvalidTable, TooMany
@@ -357,7 +357,7 @@ class Tables(Case, unittest.TestCase):
             self.refuses_number(value, plain_table, value, None)
             self.refuses_number(value, table_by_three, value, None, None)
         bad = NO_TUPLES + ((), good[:2], good + ((1, 2),), list(good)) + tuple(good[:2] + (value,) for value in NO_POINTS)
-        for value in bad + tuple(combo for combo in combinations_with_replacement(good, 3) if len(set(combo)) < 3):
+        for value in bad + tuple(combo for combo in product(good, repeat=3) if len(set(combo)) < 3):
             self.refuses(InvalidPoint, {}, table_by_three, 13, value, good)
             self.refuses(InvalidPoint, {}, table_by_three, 13, value, None)
             self.refuses(InvalidPoint, {}, table_by_three, 13, good, value)

@@ -241,7 +241,9 @@ class Laid(Case, unittest.TestCase):
 
     def test_refuses(self):
         for value in NO_SUMS:
-            self.refuses(InvalidSum, {}, laid_source, value, None, None)
+            self.refuses(InvalidSum, {}, laid_source, value, FIRST, 0)
+            self.refuses(InvalidSum, {}, laid_source, value, NO_SOURCES[0], -1)
+            self.refuses(InvalidSum, {}, laid_source, FIRST, value, 0)
             self.refuses(InvalidSum, {}, laid_source, NO_SOURCES[0], value, -1)
         for value in NO_INTEGERS + (-1, 97):
             self.refuses_number(value, laid_source, D, FIRST, value)

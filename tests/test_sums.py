@@ -323,6 +323,7 @@ class Operators(Case, unittest.TestCase):
         for call in (lambda a, b: a + b, lambda a, b: a - b):
             self.refuses(InvalidSum, {}, call, DISC, Sum.entry(2, 0))
             self.refuses(InvalidSum, {}, call, DISC, Sum(2, {(2, 0, 0): 1}))
+            self.refuses(InvalidSum, {}, call, DISC, Sum.entry(2, 2))
             self.refuses(InvalidSum, {}, call, Sum(2, {(1, 1, 1): 1}), Sum(2, {(1, 2, 0): 1}))
             self.refuses(InvalidSum, {}, call, DISC, HESSE)
             self.refuses(InvalidSum, {}, call, DISC, Sum(3, {}))

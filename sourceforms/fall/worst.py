@@ -123,7 +123,7 @@ def is_push(form, value):
 def is_fall_paper(form, value):
     """Whether the value is a fall paper of the form."""
     told = told_invariants(form)
-    if not isinstance(value, tuple) or len(value) != 2 or not isinstance(value[0], str):
+    if not isinstance(value, tuple) or len(value) != 2:
         return False
     word, shown = value
     if word == "push":

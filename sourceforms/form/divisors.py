@@ -25,8 +25,6 @@ def rest_row(one, other):
 def common_polynomial(one, other):
     """The greatest common divisor of two polynomials, rows from the highest power down without zeros ahead."""
     first, second = primitive_row(one), primitive_row(other)
-    if len(first) < len(second):
-        first, second = second, first
     while len(second) > 0:
         first, second = second, rest_row(first, second)
     return first

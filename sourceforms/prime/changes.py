@@ -99,7 +99,7 @@ def does_lead(one, other, table):
 def is_like_paper(one, other, value):
     """Whether the value shows that a table leads a form to another one, or that none does."""
     need_pair(one, other)
-    if not isinstance(value, tuple) or len(value) == 0:
+    if not isinstance(value, tuple):
         return False
     if len(value) == 2 and is_same(value[0], "table"):
         return is_whole_change(value[1]) and does_lead(one, other, value[1])

@@ -193,7 +193,7 @@ def need_like(one, value):
 def all_points(prime):
     """All prime points, ascending."""
     need_prime(prime)
-    return ((0, 1), *[(1, b) for b in range(prime)])
+    return ((0, 1),) + tuple([(1, b) for b in range(prime)])
 
 
 def led_row(table, point, prime):

@@ -133,7 +133,6 @@ def exchanged(source):
     need_sum(source)
     if source.is_zero or source.size == 0:
         raise InvalidOperation("a sum other than 0 of a size above 0 is wanted")
-    need_rooted(source)
     size = source.size
     ratios = exchanged_terms(root_terms(source), source.degree, size)
     keys = sorted(ratios)

@@ -1,6 +1,6 @@
 """The systems of the degrees 5 and 6: the told rows, products of members, and bases of such products."""
 
-from sourceforms.base.helper import is_row, lead_of, need_number, primitive_row
+from sourceforms.base.helper import lead_of, need_number, primitive_row
 from sourceforms.count.boxes import covariant_count
 from sourceforms.errors import InvalidForm, InvalidRows
 from sourceforms.form.forms import Form, made_form, product_row
@@ -69,7 +69,7 @@ def product_at(form, key):
     """The product of a key for a form."""
     need_told(form)
     marks = member_marks(form.degree)
-    if not is_row(key) or not are_powers(key, len(marks)):
+    if not are_powers(key, len(marks)):
         raise InvalidRows("a key for the degree of the form is wanted")
     size, order = mark_of(key, marks)
     if size > MOST_SIZES[form.degree] or order > MOST_ORDER:

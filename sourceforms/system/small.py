@@ -2,7 +2,7 @@
 
 from math import lcm
 
-from sourceforms.base.helper import is_row, need_number
+from sourceforms.base.helper import need_number
 from sourceforms.base.ratios import is_ratio, reduced
 from sourceforms.base.tables import echelon
 from sourceforms.errors import InvalidOperation, Refused
@@ -93,7 +93,7 @@ def are_power_terms(value, marks):
     """Whether the value is a dict from powers of one size, from 1 to 12, and one order to ratios other than 0."""
     if not isinstance(value, dict) or len(value) == 0:
         return False
-    if not all([is_row(powers) and are_powers(powers, len(marks)) for powers in value]):
+    if not all([are_powers(powers, len(marks)) for powers in value]):
         return False
     if not all([is_ratio(ratio) and ratio[0] != 0 for ratio in value.values()]):
         return False
