@@ -207,6 +207,17 @@ class Language(unittest.TestCase):
                             if isinstance(part.func.value, ast.Name):
                                 self.assertNotIn(part.func.value.id, over, (path, part.lineno))
 
+    def test_loops_leave_what_becomes_the_list_they_go_over(self):
+        """Where two names stand for one list by an assignment, none of them is changed in a loop over the other one."""
+        for path, tree in trees():
+            for function in functions(tree):
+                same = names_for_one(function)
+                for node in ast.walk(function):
+                    if isinstance(node, ast.For):
+                        over = set().union(*[same.get(name, {name}) for name in names_gone_over(node.iter)])
+                        for target, line in changed_targets(ast.Module(body=node.body, type_ignores=[])):
+                            self.assertNotIn(target, over, (path, line))
+
     def test_what_is_changed_is_new(self):
         """Items are assigned, and methods that modify are called, only where the function made the list or dict.
 
@@ -230,6 +241,40 @@ class Language(unittest.TestCase):
                 if isinstance(node, ast.BinOp) and isinstance(node.op, ast.Mult):
                     for part in (node.left, node.right):
                         self.assertNotIsInstance(part, (ast.List, ast.ListComp), (path, node.lineno))
+
+
+def names_gone_over(node):
+    """The names of what a loop goes over itself; what is copied first is left out."""
+    if isinstance(node, ast.Call):
+        if isinstance(node.func, ast.Attribute):
+            return names_gone_over(node.func.value)
+        if node.func.id not in ("enumerate", "zip", "reversed"):
+            return []
+        return [name for part in node.args for name in names_gone_over(part)]
+    if isinstance(node, ast.Subscript):
+        return names_gone_over(node.value)
+    return [node.id] if isinstance(node, ast.Name) else []
+
+
+def names_for_one(function):
+    """For each name the set of all names that some assignments or `append` of a function make stand for one value."""
+    found = {}
+    for node in ast.walk(function):
+        pairs = []
+        if isinstance(node, ast.Assign):
+            for target in node.targets:
+                if isinstance(target, ast.Tuple) and isinstance(node.value, ast.Tuple):
+                    pairs += list(zip(target.elts, node.value.elts))
+                else:
+                    pairs.append((target, node.value))
+        if isinstance(node, ast.Call) and isinstance(node.func, ast.Attribute) and node.func.attr == "append":
+            pairs.append((node.func.value, node.args[0]))
+        for one, other in pairs:
+            if isinstance(one, ast.Name) and isinstance(other, ast.Name):
+                both = found.get(one.id, {one.id}) | found.get(other.id, {other.id})
+                for name in both:
+                    found[name] = both
+    return found
 
 
 def changed_targets(function):

@@ -30,7 +30,7 @@ def widened(box, many):
     last = -1
     for number, often in groups_of(box):
         longer = []
-        for tail, left, raised, ways in found:
+        for tail, left, raised, ways in list(found):
             for more in range(min(often, left) + 1):
                 stay = often - more
                 choice = comb(stay + raised, raised) if number == last + 1 else 1

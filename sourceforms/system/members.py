@@ -29,7 +29,7 @@ def reached_behind(size, order, marks):
     found = [{(0, 0): True}]
     for heavy, wide in reversed(marks):
         grown = {}
-        for start in found[-1]:
+        for start in list(found[-1]):
             left, rest = start
             while left <= size and rest <= order:
                 grown[(left, rest)] = True
@@ -44,7 +44,7 @@ def powers_with(size, order, marks):
     found = [()] if (size, order) in reached[0] else []
     for place, mark in enumerate(marks):
         longer = []
-        for head in found:
+        for head in list(found):
             used = mark_of(head, marks)
             left, rest = size - used[0], order - used[1]
             for often in range(left // mark[0] + 1):
