@@ -9,17 +9,18 @@ TOP = Path(__file__).resolve().parent.parent / "sourceforms"
 FILES = sorted(TOP.rglob("*.py"))
 
 NODES = """Module Import ImportFrom alias FunctionDef ClassDef arguments arg Return Assign Expr If While For Break
-Continue Pass Raise Assert Yield Name Attribute Subscript Slice Constant Tuple List Dict ListComp DictComp
+Continue Pass Raise Assert Try Yield Name Attribute Subscript Slice Constant Tuple List Dict ListComp DictComp
 comprehension Call keyword BinOp UnaryOp BoolOp Compare IfExp JoinedStr FormattedValue Starred
 Load Store Add Sub Mult FloorDiv Mod Pow USub LShift RShift BitAnd Not And Or Eq NotEq Lt LtE Gt GtE Is IsNot In NotIn""".split()
-BUILTINS = """len range enumerate zip min max sum abs sorted reversed int str bool list tuple dict isinstance
+BUILTINS = """len range enumerate zip min max sum abs sorted reversed int str bool list tuple dict set isinstance
 repr any all divmod iter ValueError KeyError IndexError LookupError ArithmeticError OverflowError NotImplemented
 property classmethod staticmethod""".split()
 METHODS = """append clear copy count endswith extend find get index insert isdigit items join keys partition pop
 remove replace reverse rfind setdefault split startswith strip update values zfill bit_length""".split()
 SPECIAL = """__init__ __eq__ __str__ __len__ __iter__ __add__ __sub__ __mul__ __neg__ __contains__""".split()
-BARRED = """type typing typing_extensions enum Enum IntEnum StrEnum Flag IntFlag Generic Protocol ABC ABCMeta
-namedtuple NamedTuple TypedDict TYPE_CHECKING abstractmethod register mro elements open input law""".split()
+WORDS = """type typing typing_extensions enum Enum IntEnum StrEnum Flag IntFlag Generic Protocol ABC ABCMeta
+namedtuple NamedTuple TypedDict TYPE_CHECKING abstractmethod""".split()
+BARRED = WORDS + "register mro elements open input law".split()
 MATH = ("gcd", "lcm", "isqrt", "comb", "perm", "factorial")
 STARTS = ("list", "dict", "tuple", "sorted")
 
@@ -83,6 +84,7 @@ class Language(unittest.TestCase):
                     self.assertIn(node.value.__class__, (int, str, bool, None.__class__), (path, node.lineno))
                 if isinstance(node, ast.BinOp) and isinstance(node.op, ast.Pow):
                     self.assertIsInstance(node.right, ast.Constant)
+                    self.assertIn(node.right.value, range(65), (path, node.lineno))
 
     def test_module_level(self):
         for path, tree in trees():
@@ -174,7 +176,7 @@ class Language(unittest.TestCase):
                 if isinstance(node, ast.Constant) and isinstance(node.value, str) and id(node) not in notes:
                     self.assertNotIn("%", node.value)
                     self.assertNotIn("__", node.value)
-                    self.assertFalse(set(node.value.split()) & set(BARRED), (path, node.lineno))
+                    self.assertFalse(set(node.value.split()) & set(WORDS), (path, node.lineno))
 
     def test_decorators_and_parameters(self):
         for path, tree in trees():

@@ -54,7 +54,27 @@ def is_pair(value):
 
 def is_point(value):
     """Whether the value is a pair without a common divisor, its first integer other than 0 being above 0."""
-    return is_pair(value) and gcd(value[0], value[1]) == 1 and value > (0, 0)
+    return is_pair(value) and is_whole_point(value)
+
+
+def is_whole_pair(value):
+    """Whether the value is a pair of integers of any length."""
+    return isinstance(value, tuple) and len(value) == 2 and is_whole(value[0]) and is_whole(value[1])
+
+
+def is_whole_point(value):
+    """Whether the value is a point, with integers of any length."""
+    return is_whole_pair(value) and gcd(value[0], value[1]) == 1 and value > (0, 0)
+
+
+def is_whole_ratio(value):
+    """Whether the value is a ratio, with integers of any length."""
+    return is_whole_pair(value) and value[1] > 0 and gcd(value[0], value[1]) == 1
+
+
+def point_of(first, second):
+    """The point whose multiple a pair of integers of any length, not both 0, is."""
+    return primitive_row((first, second))
 
 
 def is_change(value):

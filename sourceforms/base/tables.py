@@ -120,14 +120,11 @@ def kernel_row(base, leads, free, width):
     return primitive_row(found[::-1])
 
 
-def determinant(table):
-    """The determinant of a square table."""
-    need_table(table)
-    if len(table) != len(table[0]):
-        raise InvalidOperation("the table is not square")
-    left = [list(row) for row in table]
+def determinant_of(rows):
+    """The determinant of square rows of integers of any length."""
+    left = [list(row) for row in rows]
     sign, divisor = 1, 1
-    for step in range(len(table)):
+    for step in range(len(rows)):
         found = pivot_row(left, step, step)
         if found is None:
             return 0
@@ -137,6 +134,14 @@ def determinant(table):
         left = cleared(left, step, step, divisor)
         divisor = left[step][step]
     return sign * divisor
+
+
+def determinant(table):
+    """The determinant of a square table."""
+    need_table(table)
+    if len(table) != len(table[0]):
+        raise InvalidOperation("the table is not square")
+    return determinant_of(table)
 
 
 def signature(table):

@@ -1,23 +1,20 @@
 """Worst forms: those with a root that comes more than half as often as the degree tells."""
 
-from sourceforms.base.helper import is_change, is_whole, is_whole_change, lead_of, need_number, powers_of
+from math import factorial
+
+from sourceforms.base.helper import is_change, is_whole, is_whole_change, lead_of, need_number, powers_of, primitive_row
 from sourceforms.base.ratios import reduced
 from sourceforms.errors import InvalidOperation, InvalidTable, Refused
-from sourceforms.form.divisors import thinned_row
-from sourceforms.form.forms import changed_row, need_form
+from sourceforms.form.divisors import thinned_rows
+from sourceforms.form.forms import changed_row, need_form, quotient_row
 from sourceforms.form.layings import laid_row
 
 MAX_TOLD = 6
 
 GREATEST_WEIGHT = 1000000
 
-
-def thinned_rows(row):
-    """The row of a form other than 0, and those with each root once less, down to the degree 0, in a list."""
-    found = [row]
-    while len(found[-1]) > 1:
-        found.append(thinned_row(found[-1]))
-    return found
+# How many told invariants there are, by the degree.
+TOLD = {1: 0, 2: 1, 3: 1, 4: 2, 5: 3, 6: 4}
 
 
 def greatest_times(form):
@@ -43,39 +40,60 @@ def fall_kind(form):
     return "stands"
 
 
-def told_of_five(row):
-    """The told invariants of a form of the degree 5."""
+def full_laying(one, other):
+    """The entry of the laying of two forms of one degree that is taken as often as this degree tells."""
+    degree = len(one) - 1
+    total = 0
+    for i in range(degree + 1):
+        term = factorial(i) * factorial(degree - i) * one[i] * other[degree - i]
+        total = total + term if i % 2 == 0 else total - term
+    return factorial(degree) * total
+
+
+def told_of_four(row, index):
+    """A told invariant of a form of the degree 4."""
+    if index == 0:
+        return full_laying(row, row)
+    return full_laying(row, laid_row(row, row, 2))
+
+
+def told_of_five(row, index):
+    """A told invariant of a form of the degree 5."""
     i = laid_row(row, row, 4)
+    if index == 0:
+        return full_laying(i, i)
     j = laid_row(row, i, 2)
     t = laid_row(j, j, 2)
-    return (laid_row(i, i, 2), laid_row(i, t, 2), laid_row(t, t, 2))
+    return full_laying(i, t) if index == 1 else full_laying(t, t)
 
 
-def told_of_six(row):
-    """The told invariants of a form of the degree 6."""
+def told_of_six(row, index):
+    """A told invariant of a form of the degree 6."""
+    if index == 0:
+        return full_laying(row, row)
     i = laid_row(row, row, 4)
-    double = laid_row(i, i, 2)
+    if index == 1:
+        return full_laying(i, i)
+    if index == 2:
+        return full_laying(i, laid_row(i, i, 2))
     single = laid_row(row, i, 4)
     u = laid_row(i, single, 2)
-    v = laid_row(i, u, 2)
-    return (laid_row(row, row, 6), laid_row(i, i, 4), laid_row(i, double, 4), laid_row(v, single, 2))
+    return full_laying(laid_row(i, u, 2), single)
 
 
-def told_rows_of(row):
-    """The told invariants as rows of one entry."""
+def told_of(row, index):
+    """The told invariant of a form with this index; its degree is from 2 to 6."""
     degree = len(row) - 1
-    if degree == 1:
-        return ()
     if degree == 2:
-        return (laid_row(row, row, 2),)
-    if degree == 5:
-        return told_of_five(row)
-    if degree == 6:
-        return told_of_six(row)
-    hesse = laid_row(row, row, 2)
+        return full_laying(row, row)
     if degree == 3:
-        return (laid_row(hesse, hesse, 2),)
-    return (laid_row(row, row, 4), laid_row(row, hesse, 4))
+        hesse = laid_row(row, row, 2)
+        return full_laying(hesse, hesse)
+    if degree == 4:
+        return told_of_four(row, index)
+    if degree == 5:
+        return told_of_five(row, index)
+    return told_of_six(row, index)
 
 
 def need_told(form):
@@ -88,7 +106,7 @@ def need_told(form):
 def told_invariants(form):
     """The tuple of the told invariants."""
     need_told(form)
-    return tuple([row[0] for row in told_rows_of(form.entries)])
+    return tuple([told_of(form.entries, index) for index in range(TOLD[form.degree])])
 
 
 def push_to(a, b):
@@ -114,23 +132,30 @@ def is_push(form, value):
     """Whether the value is a push of the form."""
     if not is_whole_change(value):
         return False
-    if value[0][0] * value[1][1] == value[0][1] * value[1][0]:
+    (a, b), (c, d) = value
+    if a * d == b * c:
         return False
-    row = changed_row(form.entries, value)
-    return lead_of(row[:form.degree // 2 + 1]) is None
+    # The entries that must be 0 tell that the point which becomes (1, 0) is a root so often.
+    line = primitive_row((c, -a))
+    left = form.entries
+    for _ in range(form.degree // 2 + 1):
+        left = quotient_row(left, line)
+        if left is None:
+            return False
+    return True
 
 
 def is_fall_paper(form, value):
     """Whether the value is a fall paper of the form."""
-    told = told_invariants(form)
+    need_told(form)
     if not isinstance(value, tuple) or len(value) != 2:
         return False
     word, shown = value
     if word == "push":
         return is_push(form, shown)
-    if word == "invariant":
-        return is_whole(shown) and 0 <= shown < len(told) and told[shown] != 0
-    return False
+    if word != "invariant" or not is_whole(shown) or not 0 <= shown < TOLD[form.degree]:
+        return False
+    return told_of(form.entries, shown) != 0
 
 
 def weighed(entry, weight, exponent):

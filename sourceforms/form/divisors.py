@@ -2,24 +2,27 @@
 
 from math import gcd
 
-from sourceforms.base.helper import lead_of, primitive_row
-from sourceforms.form.forms import derived_row
+from sourceforms.base.helper import content_of, lead_of, primitive_row
+from sourceforms.form.forms import derived_row, quotient_row
 
 
 def rest_row(one, other):
-    """What a polynomial leaves, but for a factor, when it is divided by another one; () for nothing.
+    """What a polynomial leaves when it is divided by another one, without a common divisor; () for nothing.
 
-    Both are rows from the highest power down, without zeros ahead.
+    Both are rows from the highest power down, without zeros ahead. The signs of the rest are kept.
     """
     left = one
     while len(left) >= len(other):
         shared = gcd(left[0], other[0])
+        if other[0] < 0:
+            shared = -shared
         up, down = other[0] // shared, left[0] // shared
         head = [up * a - down * b for a, b in zip(left, other)]
         left = head[1:] + [up * a for a in left[len(other):]]
         lead = lead_of(left)
         left = [] if lead is None else left[lead:]
-    return primitive_row(left)
+    content = content_of(left)
+    return tuple([number // content for number in left])
 
 
 def common_polynomial(one, other):
@@ -27,7 +30,7 @@ def common_polynomial(one, other):
     first, second = primitive_row(one), primitive_row(other)
     while len(second) > 0:
         first, second = second, rest_row(first, second)
-    return first
+    return primitive_row(first)
 
 
 def common_row(one, other):
@@ -45,3 +48,18 @@ def thinned_row(row):
     if lead_of(second) is None:
         return primitive_row(first)
     return common_row(first, second)
+
+
+def thinned_rows(row):
+    """The row of a form other than 0, and those with each root once less, down to the degree 0, in a list."""
+    found = [row]
+    while len(found[-1]) > 1:
+        found.append(thinned_row(found[-1]))
+    return found
+
+
+def plain_part_row(row):
+    """The entries of the product of all lines of a form other than 0, each once."""
+    if len(row) == 1:
+        return (1,)
+    return quotient_row(primitive_row(row), thinned_row(row))

@@ -60,6 +60,22 @@ def changed_row(row, table):
     return total
 
 
+def power_row(first, second, degree):
+    """The entries of (first x + second y) ** degree."""
+    left = powers_of(first, degree)
+    right = powers_of(second, degree)
+    return tuple([comb(degree, i) * left[degree - i] * right[i] for i in range(degree + 1)])
+
+
+def row_value(row, x, y):
+    """The value of a form for two integers."""
+    total, power = 0, 1
+    for entry in row:
+        total = total * x + entry * power
+        power = power * y
+    return total
+
+
 def quotient_row(row, divisor):
     """The entries whose product with the divisor, which is not 0, is the row, or None."""
     many = len(row) - len(divisor) + 1
@@ -118,9 +134,7 @@ class Form:
         if not is_pair(pair):
             raise InvalidPoint("a pair of integers is wanted")
         need_number(degree, 0, MAX_DEGREE)
-        first = powers_of(pair[0], degree)
-        second = powers_of(pair[1], degree)
-        return made_form(tuple([comb(degree, i) * first[degree - i] * second[i] for i in range(degree + 1)]))
+        return made_form(power_row(pair[0], pair[1], degree))
 
     @property
     def entries(self):
@@ -153,11 +167,7 @@ class Form:
             raise InvalidNumber(x)
         if not is_integer(y):
             raise InvalidNumber(y)
-        total, power = 0, 1
-        for entry in self._entries:
-            total = total * x + entry * power
-            power = power * y
-        return total
+        return row_value(self._entries, x, y)
 
     def changed(self, table):
         """The form with p x + q y put for x, and r x + s y for y."""

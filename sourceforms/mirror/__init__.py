@@ -1,0 +1,1 @@
+"""Forms with the same changes as solids."""

@@ -1,0 +1,1 @@
+"""What kills forms, and sums of powers."""

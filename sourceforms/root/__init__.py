@@ -1,0 +1,1 @@
+"""Roots that forms have in common, and real roots."""
