@@ -10,6 +10,8 @@ from sourceforms.fall.worst import fall_kind, fall_paper, greatest_times, is_fal
 from sourceforms.form.forms import Form
 from sourceforms.form.layings import laid
 from tests.support import BENT, CUBIC, FOUR, LET, LONG, NO_INTEGERS, NO_TUPLES, QUAD, SIX, Case, picker, some_form, some_table
+from tests.test_forms import changed_by_powers
+from tests.test_layings import reckoned_laying
 from tests.test_sources import NO_FORMS
 
 NAMES = {**vars(errors), **vars(module), "Form": Form, "QUAD": QUAD, "CUBIC": CUBIC, "FOUR": FOUR, "SIX": SIX, "BENT": BENT}
@@ -266,6 +268,86 @@ class Papers(Case, unittest.TestCase):
             self.assertIs(is_fall_paper(bent, ("push", value)), False)
         self.assertIs(is_fall_paper(bent, ("push", ((False, True), (True, False)))), False)
         self.assertIs(is_fall_paper(CUBIC, ("invariant", 0)), True)
+
+
+class Judging(Case, unittest.TestCase):
+    """Some thousand values, each judged by the changed form and by layings that the test works out."""
+
+    def reckoned(self, form, value):
+        if value.__class__ is not tuple or len(value) != 2:
+            return False
+        word, shown = value
+        if word == "invariant":
+            told = [part[0] for part in self.told(form.entries)]
+            return shown.__class__ is int and 0 <= shown < len(told) and told[shown] != 0
+        if word != "push" or shown.__class__ is not tuple or len(shown) != 2:
+            return False
+        if any(row.__class__ is not tuple or len(row) != 2 or any(part.__class__ is not int for part in row) for row in shown):
+            return False
+        (p, q), (r, s) = shown
+        if p * s == q * r:
+            return False
+        return not any(changed_by_powers(form.entries, (p, q), (r, s))[:form.degree // 2 + 1])
+
+    def told(self, f):
+        n = len(f) - 1
+        if n < 3:
+            return [reckoned_laying(f, f, 2)][:n - 1]
+        h = reckoned_laying(f, f, 2)
+        if n == 3:
+            return [reckoned_laying(h, h, 2)]
+        i = reckoned_laying(f, f, 4)
+        if n == 4:
+            return [i, reckoned_laying(f, h, 4)]
+        if n == 5:
+            j = reckoned_laying(f, i, 2)
+            t = reckoned_laying(j, j, 2)
+            return [reckoned_laying(one, other, 2) for one, other in ((i, i), (i, t), (t, t))]
+        one = reckoned_laying(f, i, 4)
+        v = reckoned_laying(i, reckoned_laying(i, one, 2), 2)
+        return [reckoned_laying(f, f, 6), reckoned_laying(i, i, 4), reckoned_laying(i, reckoned_laying(i, i, 2), 4), reckoned_laying(v, one, 2)]
+
+    def forms(self):
+        pick = picker(513)
+        found = []
+        for degree in range(1, 7):
+            found += [Form((0,) * (degree + 1)), Form((1,) + (0,) * degree), Form((0,) * degree + (-2,)), some_form(pick, degree, LET)]
+            for often in range(degree + 1):
+                a, b = pick.choice(((1, 0), (0, 1), (2, -3), (5, 7), (1, 10 ** 9)))
+                found.append(powers([(Form((b, -a)), often)]) * some_form(pick, degree - often, 3))
+        return found
+
+    def values(self, pick, form):
+        """Right papers, papers near them, and values of other kinds."""
+        found = [("invariant", index) for index in range(-2, 6)] + [fall_paper(form)]
+        tables = [some_table(pick, 2) for _ in range(4)] + [((1, 0), (0, 1)), ((0, 1), (1, 0))]
+        word, shown = fall_paper(form)
+        if word == "push":
+            (p, q), (r, s) = shown
+            k = pick.choice((-1, 3, 10 ** 70))
+            tables += [((k * p, q + p), (k * r, s + r)), ((q, p), (s, r)), ((p, p), (r, r)), ((p + 1, q), (r, s)), ((p, q), (r + 1, s)),
+                       ((0, q), (0, s)), ((p, 0), (r, 0)), ((-p, q), (-r, s))]
+        found += [("push", table) for table in tables]
+        found += [("push", table + ((0, 0),)) for table in tables[:1]] + [("push", list(tables[0])), ("push", tables[0], 1), ["push", tables[0]]]
+        return found + list(pick.sample(NO_TUPLES + NO_TABLES, 6)) + [("push", value) for value in pick.sample(NO_TABLES, 4)]
+
+    def test_answers(self):
+        pick = picker(514)
+        many, right = 0, 0
+        for _ in range(2):
+            for form in self.forms():
+                for value in self.values(pick, form):
+                    wanted = self.reckoned(form, value)
+                    self.assertIs(is_fall_paper(form, value), wanted)
+                    many, right = many + 1, right + wanted
+        self.assertGreater(many, 2000)
+        self.assertGreater(right, 200)
+
+    def test_time(self):
+        """Ten rounds of some four hundred calls, most of which need no invariant; there were times of 14 ms for one round."""
+        pick = picker(515)
+        lots = [(form, value) for form in self.forms()[::3][:12] for value in self.values(pick, form)]
+        self.soon(0.4, lambda: [is_fall_paper(form, value) for _ in range(10) for form, value in lots])
 
 
 class Pushed(Case, unittest.TestCase):

@@ -1,0 +1,1 @@
+"""Pencils of forms."""
