@@ -3,6 +3,7 @@
 from math import gcd
 
 from sourceforms.base.helper import content_of, lead_of, primitive_row
+from sourceforms.base.modular import EXPONENTS, bits_of, common_by, short_row
 from sourceforms.form.forms import derived_row, quotient_row
 
 
@@ -25,12 +26,32 @@ def rest_row(one, other):
     return tuple([number // content for number in left])
 
 
-def common_polynomial(one, other):
-    """The greatest common divisor of two polynomials, rows from the highest power down without zeros ahead."""
-    first, second = primitive_row(one), primitive_row(other)
+def common_by_rests(one, other):
+    """The greatest common divisor of two polynomials, by what they leave."""
+    first, second = one, other
     while len(second) > 0:
         first, second = second, rest_row(first, second)
     return primitive_row(first)
+
+
+def common_by_primes(one, other, most):
+    """The greatest common divisor of two polynomials, found modulo a prime of at most so many bits, or None."""
+    for exponent in EXPONENTS:
+        found = common_by(one, other, exponent) if exponent <= most else None
+        short = None if found is None else short_row(found, exponent)
+        # No common divisor has a greater degree than one modulo the prime, so what divides both is the greatest one.
+        if short is not None and quotient_row(one, short) is not None and quotient_row(other, short) is not None:
+            return short
+    return None
+
+
+def common_polynomial(one, other):
+    """The greatest common divisor of two polynomials, rows from the highest power down without zeros ahead."""
+    first, second = primitive_row(one), primitive_row(other)
+    # Exact rests have at the end about so many bits.
+    bits = bits_of([first, second]) * 2 * min(len(first), len(second))
+    found = common_by_primes(first, second, bits // 5)
+    return common_by_rests(first, second) if found is None else found
 
 
 def common_row(one, other):

@@ -3,7 +3,8 @@
 from math import comb, factorial
 
 from sourceforms.base.helper import lead_of, need_number, primitive_row
-from sourceforms.base.tables import echelon, kernel_rows
+from sourceforms.base.modular import EXPONENTS, FEW_BITS, bits_of, echelon_by, kernel_long
+from sourceforms.base.tables import echelon
 from sourceforms.errors import InvalidOperation, Refused, TooMany
 from sourceforms.form.forms import MAX_DEGREE, derived_row, made_form, multiple_row, need_form, quotient_row, sum_row
 from sourceforms.power.inverse import inverse_series
@@ -69,12 +70,24 @@ def plain_levels(row):
     return primitive_row(level_row(row))
 
 
+def killer_rows(levels, degree):
+    """The echelon of the entries of all killers of a degree, up to one above that of the form."""
+    return kernel_long(level_rows(levels, degree), degree + 1)
+
+
 def least_degree(levels):
     """The least degree of a killer other than a zero form: the rank of the level table in the middle.
 
     For the zero form it is 0.
     """
-    return len(echelon(level_rows(levels, (len(levels) - 1) // 2)))
+    middle = level_rows(levels, (len(levels) - 1) // 2)
+    if bits_of([levels]) > FEW_BITS:
+        # A rank modulo a prime is no greater, and no rank is greater than the degree of a killer but 0.
+        for exponent in EXPONENTS:
+            found = len(echelon_by(middle, exponent))
+            if 2 * found >= len(levels) or len(killer_rows(levels, found)) > 0:
+                return found
+    return len(echelon(middle))
 
 
 def rank_at(least, degree, at):
@@ -87,11 +100,6 @@ def killer_ranks(form):
     need_form(form)
     least = least_degree(plain_levels(form.entries))
     return tuple([rank_at(least, form.degree, at) for at in range(form.degree + 1)])
-
-
-def killer_rows(levels, degree):
-    """The echelon of the entries of all killers of a degree, up to one above that of the form."""
-    return kernel_rows(level_rows(levels, degree), degree + 1)
 
 
 def killers(form, degree):
