@@ -122,18 +122,24 @@ def kernel_row(base, leads, free, width):
 
 def determinant_of(rows):
     """The determinant of square rows of integers of any length."""
-    left = [list(row) for row in rows]
+    left = rows
     sign, divisor = 1, 1
-    for step in range(len(rows)):
-        found = pivot_row(left, step, step)
+    while len(left) > 0:
+        found = pivot_row(left, 0, 0)
         if found is None:
             return 0
-        if found != step:
-            left[step], left[found] = left[found], left[step]
-            sign = -sign
-        left = cleared(left, step, step, divisor)
-        divisor = left[step][step]
+        # The row is taken to the front, past so many others.
+        sign = sign if found % 2 == 0 else -sign
+        base = left[found]
+        left = below(left[:found] + left[found + 1:], base, divisor)
+        divisor = base[0]
     return sign * divisor
+
+
+def below(rows, base, divisor):
+    """The rows, cleared by a row with a pivot ahead, without their first column."""
+    pivot = base[0]
+    return [[(pivot * a - row[0] * b) // divisor for a, b in zip(row[1:], base[1:])] for row in rows]
 
 
 def determinant(table):
